@@ -1,0 +1,1 @@
+"""Stow: a row of cells given out in pieces."""
