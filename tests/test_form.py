@@ -5,6 +5,7 @@ This is no full check of all rules; it catches the ones that are easily broken u
 
 import ast
 import builtins
+import functools
 import pathlib
 import unittest
 
@@ -27,6 +28,15 @@ type typing typing_extensions enum Enum IntEnum StrEnum Flag IntFlag Generic Pro
 NamedTuple TypedDict TYPE_CHECKING abstractmethod
 """.split()
 WORD_PARTS = "dataclass overload contextmanager".split()
+# Methods of Python's own values that may be called (L25), and names that own methods may bear beside free ones (L26).
+CALLED = """
+append clear copy count endswith extend find get index insert isalnum isalpha isdigit islower isspace isupper items
+join keys ljust lower lstrip partition pop remove replace reverse rfind rjust rpartition rsplit rstrip setdefault split
+splitlines startswith strip update upper values zfill bit_length
+""".split()
+OWN_METHODS = CALLED + ["add", "discard"]
+OWN_VALUES = "count index title find get join lower upper split strip copy add".split()
+TAKEN = [name for kind in (str, int, list, tuple, dict, set, bytes) for name in dir(kind)]
 NOWHERE = "register mro elements open input version_info with_traceback add_note format format_map sort args".split()
 
 
@@ -38,7 +48,9 @@ def sources():
     return [(path, path.read_text(encoding="utf-8")) for path in files()]
 
 
+@functools.cache
 def trees():
+    # Read once, so that a node is the same one wherever it is come upon.
     return [(path, ast.parse(text)) for path, text in sources()]
 
 
@@ -60,6 +72,35 @@ def bound_names(node):
 
 def methods(tree):
     return [part for node in ast.walk(tree) if isinstance(node, ast.ClassDef) for part in node.body]
+
+
+def own_methods():
+    return [part.name for path, tree in trees() for part in methods(tree) if isinstance(part, ast.FunctionDef)]
+
+
+def own_values():
+    return [node.attr for path, node in nodes(ast.Attribute) if isinstance(node.ctx, ast.Store)]
+
+
+def own_classes():
+    return [node.name for path, node in nodes(ast.ClassDef)]
+
+
+def places_of_classes(tree):
+    """The nodes at which the name of a class may stand (L18)."""
+    allowed = []
+    for node in ast.walk(tree):
+        if isinstance(node, ast.ClassDef):
+            allowed += node.bases
+        if isinstance(node, ast.Call):
+            allowed += [node.func]
+            if isinstance(node.func, ast.Name) and node.func.id == "isinstance":
+                allowed += list(ast.walk(node.args[1]))
+        if isinstance(node, ast.ExceptHandler):
+            allowed += list(ast.walk(node.type))
+        if isinstance(node, ast.Attribute) and node.attr == "__init__":
+            allowed += [node.value]
+    return allowed
 
 
 class Form(unittest.TestCase):
@@ -180,10 +221,45 @@ class Form(unittest.TestCase):
                         self.assertIsInstance(part, (ast.FunctionDef, ast.Pass), (path, node.name))
 
     def test_no_name_is_a_method_and_a_value(self):
-        named = [part.name for path, tree in trees() for part in methods(tree) if isinstance(part, ast.FunctionDef)]
+        self.assertEqual(set(own_methods()) & set(own_values()), set())
+
+    def test_names_of_own_methods_and_values(self):
+        for name in own_methods():
+            self.assertTrue(name in METHODS + OWN_METHODS or name not in TAKEN, name)
+        for name in own_values():
+            self.assertTrue(name in OWN_VALUES or name not in TAKEN, name)
+
+    def test_methods_are_known_and_called_where_they_stand(self):
+        called = [node.func for path, node in nodes(ast.Call)]
         for path, node in nodes(ast.Attribute):
-            if isinstance(node.ctx, ast.Store):
-                self.assertNotIn(node.attr, named, (path, node.lineno))
+            known = own_methods() + CALLED + ["__init__"] if node in called else own_values()
+            if not isinstance(node.ctx, ast.Store):
+                self.assertIn(node.attr, known, (path, node.lineno))
+
+    def test_classes_are_not_handed_on(self):
+        for path, tree in trees():
+            allowed = places_of_classes(tree)
+            for node in ast.walk(tree):
+                if isinstance(node, ast.Name) and node.id in own_classes():
+                    self.assertIn(node, allowed, (path, node.lineno))
+
+    def test_no_local_is_called_like_a_class_or_an_import(self):
+        for path, tree in trees():
+            drawn = [name.name for node in tree.body if isinstance(node, ast.ImportFrom) for name in node.names]
+            top = drawn + [node.name for node in tree.body if isinstance(node, ast.ClassDef)]
+            for node in ast.walk(tree):
+                if isinstance(node, (ast.arg, ast.Name)):
+                    for name in bound_names(node):
+                        self.assertNotIn(name, top, (path, node.lineno))
+
+    def test_keywords(self):
+        known = {"sorted": ("key", "reverse"), "min": ("key", "default"), "max": ("key", "default"),
+                 "sum": ("start",), "enumerate": ("start",), "zip": ("strict",)}
+        for path, node in nodes(ast.Call):
+            for keyword in node.keywords:
+                name = node.func.id if isinstance(node.func, ast.Name) else node.func.attr
+                if name in BUILTINS + CALLED + own_classes():
+                    self.assertIn(keyword.arg, known.get(name, ()), (path, node.lineno))
 
     def test_is_stands_beside_none_and_truths_alone(self):
         for path, node in nodes(ast.Compare):

@@ -1,0 +1,96 @@
+"""Rooms for the tests, made by arithmetic alone, not by the program."""
+
+# A number of sixty figures.
+SIXTY = 10 ** 59 + 7
+
+
+def pieces_of(words):
+    """Pieces from words such as "f2 l5 f1": free ones and live ones, end to end from cell 0."""
+    pieces, at = [], 0
+    for word in words.split():
+        long = int(word[1:])
+        pieces.append((at, long, word[0] == "l"))
+        at += long
+    return pieces
+
+
+def marked(cells, pieces):
+    """The cells with the marks of these pieces and no other change."""
+    row = list(cells)
+    for at, long, live in pieces:
+        row[at] = row[at + long - 1] = 2 * long + (1 if live else 0)
+    return row
+
+
+def room(words):
+    """Cells of these pieces; all between the marks are unlike one another and unlike any mark."""
+    return room_of(pieces_of(words))
+
+
+def room_of(pieces):
+    count = sum(long for at, long, live in pieces)
+    return marked([-1000 - cell for cell in range(count)], pieces)
+
+
+def all_pieces(count, at=0):
+    """All ways to fill so many cells with pieces."""
+    if at == count:
+        return [[]]
+    found = []
+    for long in range(1, count - at + 1):
+        for live in (False, True):
+            if long >= 3 or not live:
+                found += [[(at, long, live)] + rest for rest in all_pieces(count, at + long)]
+    return found
+
+
+def all_rooms(most):
+    """All rooms of one to so many cells, as (pieces, cells)."""
+    return [(pieces, room_of(pieces)) for count in range(1, most + 1) for pieces in all_pieces(count)]
+
+
+def run_together(pieces):
+    """The pieces with each row of free ones made one."""
+    told = []
+    for at, long, live in pieces:
+        if told and not live and not told[-1][2]:
+            at, ahead, live = told.pop()
+            long += ahead
+        told.append((at, long, live))
+    return told
+
+
+def walked(cells):
+    """The pieces of cells, by one walk from cell 0; no cells are handed in that tell none."""
+    pieces, at = [], 0
+    while at < len(cells):
+        long, live = cells[at] // 2, cells[at] % 2 == 1
+        assert long >= (3 if live else 1) and cells[at + long - 1] == cells[at]
+        pieces.append((at, long, live))
+        at += long
+    assert at == len(cells)
+    return pieces
+
+
+def first_by_trying(piece, long, bound):
+    """The first place in a piece, cell by cell."""
+    for place in range(piece[0], piece[0] + piece[1] - long + 1):
+        if (place + 1) % bound == 0:
+            return place
+    return None
+
+
+def chosen_by_trying(word, rover, pieces, long, bound):
+    """What the words of the document choose, over a list of pieces."""
+    fit = [piece for piece in pieces if not piece[2] and first_by_trying(piece, long, bound) is not None]
+    if not fit:
+        return None
+    if word == "best":
+        fewest = min(piece[1] for piece in fit)
+        fit = [piece for piece in fit if piece[1] == fewest]
+    if word == "likes":
+        least = min(len(bin(piece[1])) for piece in fit)
+        fit = [piece for piece in fit if len(bin(piece[1])) == least]
+    if word == "next":
+        fit = [piece for piece in fit if piece[0] >= rover] or fit
+    return first_by_trying(fit[0], long, bound)
