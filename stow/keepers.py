@@ -1,22 +1,9 @@
 """Keepers: a room whose live pieces are named by their holders' first cells; the rule is that of a class under it."""
 
-from stow.errors import NoAsk, NoBound, NoCell, NoRoom, NoSize
+from stow.asks import MARKS, check_plain_ask
+from stow.errors import NoCell, NoRoom, NoSize
 from stow.looks import fresh_room, looked
 from stow.pieces import carried, laid, live_at
-
-# A live piece has these cells beside its holder's.
-MARKS = 2
-
-
-def check_ask(count, bound):
-    if count < 1 or bound < 1:
-        raise NoAsk("a count and a bound are 1 or more")
-
-
-def check_plain_ask(count, bound):
-    check_ask(count, bound)
-    if bound != 1:
-        raise NoBound("this keeper knows no bound but 1")
 
 
 class Keeper:

@@ -1,7 +1,8 @@
 """Keepers of stretches: they keep their cells joined, and each chooses among the free pieces in its own way."""
 
+from stow.asks import MARKS, check_ask
 from stow.errors import NoName, NoRoom
-from stow.keepers import MARKS, Keeper, check_ask
+from stow.keepers import Keeper
 from stow.marks import long_of
 from stow.pieces import begin_around, cut_out, free_end, freed, joined, laid, laid_free, live_at
 from stow.places import spots_for

@@ -80,12 +80,18 @@ def first_by_trying(piece, long, bound):
     return None
 
 
-def chosen_by_trying(word, rover, pieces, long, bound):
+def chosen_by_trying(word, rover, pieces, long, bound, shelf=8):
     """What the words of the document choose, over a list of pieces."""
+    if word == "shelves":
+        return chosen_on_shelves(pieces, long, shelf)
+    if word == "halves":
+        long = block_by_trying(long)
+    if word == "row":
+        pieces = pieces[-1:]
     fit = [piece for piece in pieces if not piece[2] and first_by_trying(piece, long, bound) is not None]
     if not fit:
         return None
-    if word == "best":
+    if word in ("best", "halves"):
         fewest = min(piece[1] for piece in fit)
         fit = [piece for piece in fit if piece[1] == fewest]
     if word == "likes":
@@ -94,3 +100,46 @@ def chosen_by_trying(word, rover, pieces, long, bound):
     if word == "next":
         fit = [piece for piece in fit if piece[0] >= rover] or fit
     return first_by_trying(fit[0], long, bound)
+
+
+def block_by_trying(long):
+    block = 1
+    while block < long:
+        block += block
+    return block
+
+
+def by_shelf(pieces, shelf):
+    """The pieces of each shelf by themselves, from below to above."""
+    count = pieces[-1][0] // shelf + 1
+    return [[piece for piece in pieces if piece[0] // shelf == k] for k in range(count)]
+
+
+def chosen_on_shelves(pieces, long, shelf):
+    rows = by_shelf(pieces, shelf)
+    for row in rows:
+        free = [at for at, slot, live in row if slot == long and not live]
+        if row[0][1] == long and row[0][1] < shelf and free:
+            return free[0]
+    whole = [row[0][0] for row in rows if row[0][1] == shelf and not row[0][2]]
+    return whole[0] if whole and long <= shelf else None
+
+
+def kept_as(word, pieces, shelf=8):
+    """Whether pieces that lie end to end are such as the keeper of this word keeps them."""
+    if word == "halves":
+        blocks = all(bin(long).count("1") == 1 and at % long == 0 for at, long, live in pieces)
+        return blocks and not any((at ^ long, long, False) in pieces for at, long, live in pieces if not live)
+    if word == "shelves":
+        return all(kept_as_shelf(row, shelf) for row in by_shelf(pieces, shelf))
+    if word == "row":
+        return all(live for at, long, live in pieces[:-1])
+    return run_together(pieces) == pieces
+
+
+def kept_as_shelf(row, shelf):
+    longs = [long for at, long, live in row]
+    if not any(live for at, long, live in row):
+        return longs == [shelf]
+    left = [shelf % longs[0]] if shelf % longs[0] else []
+    return longs == [longs[0]] * (shelf // longs[0]) + left and not (left and row[-1][2])

@@ -3,14 +3,16 @@
 import random
 import unittest
 
-from rooms import SIXTY, chosen_by_trying, run_together, walked
-from stow.errors import NoAsk, NoPiece, NoRoom
+from rooms import SIXTY, block_by_trying, chosen_by_trying, kept_as, walked
+from stow.errors import NoAsk, NoBound, NoGive, NoPiece, NoRoom
 from stow.keepers import Keeper
+from stow.kinds import keeper_of
 from stow.pieces import cut_out
-from stow.stretches import stretches_of
 
-WORDS = ("first", "best", "next", "likes")
-ROWS = ((1, 30), (2, 30), (3, 60), (5, 100), (12, 300), (40, 400), (120, 300), (400, 200))
+STRETCHES = ("first", "best", "next", "likes")
+# Each is a room's cells, a shelf's, and how many deeds are drawn.
+ROWS = ((1, 1, 30), (2, 2, 30), (3, 3, 60), (5, 5, 100), (12, 4, 300), (40, 10, 400), (120, 12, 300), (400, 16, 200))
+HALVES = ((1, 1, 30), (2, 1, 30), (4, 1, 60), (8, 1, 100), (16, 1, 300), (64, 1, 400), (128, 1, 300), (256, 1, 200))
 
 
 class Lowest(Keeper):
@@ -28,24 +30,36 @@ class Lowest(Keeper):
 class Account:
     """Plays drawn deeds on a keeper and keeps account: for each place what its holder's cells hold (None: unknown)."""
 
-    def __init__(self, case, word, size, seed):
-        self.case, self.word, self.size, self.draw = case, word, size, random.Random(seed)
-        self.plain = word == "plain"
-        self.keeper = Lowest(size) if self.plain else stretches_of(word, size)
+    def __init__(self, case, word, size, shelf, seed):
+        self.case, self.word, self.size, self.shelf, self.draw = case, word, size, shelf, random.Random(seed)
+        self.stretches = word in STRETCHES
+        self.keeper = self.made()
         self.held, self.rover = {}, 0
         self.moved = self.stayed = self.refused = 0
+
+    def made(self):
+        if self.word == "plain":
+            return Lowest(self.size)
+        return keeper_of(self.word, self.size, self.shelf)
 
     def count(self):
         return self.draw.randint(1, self.draw.choice((3, 8, self.size + 1)))
 
     def bound(self):
-        return 1 if self.plain else self.draw.choice((1, 1, 1, 2, 3, 4, 8))
+        return self.draw.choice((1, 1, 1, 2, 3, 4, 8)) if self.stretches else 1
 
     def place(self):
         return self.draw.choice(sorted(self.held))
 
     def chosen(self, count, bound):
-        return chosen_by_trying(self.word, self.rover, walked(self.keeper.cells()), count + 2, bound)
+        pieces = walked(self.keeper.cells())
+        return chosen_by_trying(self.word, self.rover, pieces, count + 2, bound, self.shelf)
+
+    def given(self, at, count, held):
+        """Notes a piece that was given out, whose holder's first cells hold this."""
+        self.rover = at + count + 2
+        many = block_by_trying(count + 2) - 2 if self.word == "halves" else count
+        self.held[at + 1] = held[:count] + [None] * (many - len(held[:count]))
 
     def ask(self):
         count, bound = self.count(), self.bound()
@@ -56,11 +70,13 @@ class Account:
         place = self.keeper.ask(count, bound)
         self.case.assertEqual(place, at + 1)
         self.case.assertEqual(place % bound, 0)
-        self.rover = at + count + 2
-        self.held[place] = [None] * count
+        self.given(at, count, [])
 
     def give(self):
         place = self.place()
+        if self.word == "row":
+            self.refuse(NoGive, lambda: self.keeper.give(place))
+            return
         self.keeper.give(place)
         del self.held[place]
 
@@ -74,10 +90,13 @@ class Account:
 
     def grow(self):
         place, count, bound = self.place(), self.count(), self.bound()
+        if self.word == "row":
+            self.refuse(NoGive, lambda: self.keeper.grow(place, count, bound))
+            return
         held = self.held[place]
         if self.stays(place, count, bound):
             self.case.assertEqual(self.keeper.grow(place, count, bound), place)
-            if not self.plain:
+            if self.stretches:
                 self.held[place] = held[:count] + [None] * (count - len(held))
             self.stayed += 1
             return
@@ -87,12 +106,11 @@ class Account:
             return
         self.case.assertEqual(self.keeper.grow(place, count, bound), at + 1)
         del self.held[place]
-        self.held[at + 1] = held[:count] + [None] * (count - len(held))
-        self.rover = at + count + 2
+        self.given(at, count, held)
         self.moved += 1
 
     def stays(self, place, count, bound):
-        if self.plain:
+        if not self.stretches:
             return len(self.held[place]) >= count
         room = len(self.held[place]) + 2
         for at, long, live in walked(self.keeper.cells()):
@@ -103,11 +121,17 @@ class Account:
     def wrong(self):
         beside = [place for place in range(-1, self.size + 2) if place not in self.held]
         place = self.draw.choice(beside)
-        for call in (lambda: self.keeper.give(place), lambda: self.keeper.grow(place, 1),
-                     lambda: self.keeper.put(place, 0, 1), lambda: self.keeper.many(place)):
-            self.refuse(NoPiece, call)
-        if self.held:
+        first = NoGive if self.word == "row" else NoPiece
+        self.refuse(first, lambda: self.keeper.give(place))
+        self.refuse(first, lambda: self.keeper.grow(place, 1))
+        self.refuse(NoPiece, lambda: self.keeper.put(place, 0, 1))
+        self.refuse(NoPiece, lambda: self.keeper.many(place))
+        if self.word != "plain":
+            self.refuse(NoAsk, lambda: self.keeper.ask(0))
+        if self.held and self.word != "row":
             self.refuse(NoAsk, lambda: self.keeper.grow(self.place(), 0))
+        if self.word in ("halves", "shelves", "row"):
+            self.refuse(NoBound, lambda: self.keeper.ask(self.count(), 2))
 
     def refuse(self, refusal, call):
         before = self.keeper.cells()
@@ -116,12 +140,17 @@ class Account:
         self.refused += 1
 
     def anew(self):
+        self.rover = 0
         if self.draw.random() < 0.3:
             self.keeper.clear()
+            self.case.assertEqual(self.keeper.cells(), self.made().cells())
             self.held = {}
-        else:
-            self.keeper.lay(self.keeper.cells())
-        self.rover = 0
+            return
+        cells = self.keeper.cells()
+        if self.draw.random() < 0.5:
+            # All is told by the cells, so another keeper goes on with them.
+            self.keeper = self.made()
+        self.keeper.lay(cells)
 
     def deed(self):
         deeds = ["ask"] * 6 + ["wrong"]
@@ -142,8 +171,8 @@ class Account:
             for k, number in enumerate(held):
                 if number is not None:
                     self.case.assertEqual(cells[place + k], number)
-        if not self.plain:
-            self.case.assertEqual(run_together(pieces), pieces)
+        if self.word != "plain":
+            self.case.assertTrue(kept_as(self.word, pieces, self.shelf), pieces)
         if self.word == "next":
             self.case.assertEqual(self.keeper.rover(), self.rover)
         self.check_one()
@@ -160,28 +189,29 @@ class Account:
 
 class Promise4(unittest.TestCase):
     def test_drawn_deeds(self):
-        for word in WORDS + ("plain",):
-            for size, deeds in ROWS:
+        for word in STRETCHES + ("halves", "shelves", "row", "plain"):
+            for size, shelf, deeds in HALVES if word == "halves" else ROWS:
                 for seed in (11, 12, 13):
                     with self.subTest(word=word, size=size, seed=seed):
-                        account = Account(self, word, size, seed)
+                        account = Account(self, word, size, shelf, seed)
                         account.check()
                         for turn in range(deeds):
                             account.deed()
                             account.check()
-                        if size in (40, 120):
+                        if size in (40, 64, 120, 128) and word != "row":
                             # The rows tell something only where all of these came up.
                             self.assertTrue(account.moved and account.stayed and account.refused)
 
     def test_all_can_be_given_back(self):
-        for word in WORDS:
-            account = Account(self, word, 60, 21)
+        for word in STRETCHES + ("halves", "shelves"):
+            account = Account(self, word, 64, 16, 21)
+            at_first = account.keeper.pieces()
             for turn in range(200):
                 account.deed()
             while account.held:
                 account.give()
                 account.check()
-            self.assertEqual(account.keeper.pieces(), [(0, 60, False)])
+            self.assertEqual(account.keeper.pieces(), at_first)
 
 
 if __name__ == "__main__":
