@@ -143,3 +143,35 @@ def kept_as_shelf(row, shelf):
         return longs == [shelf]
     left = [shelf % longs[0]] if shelf % longs[0] else []
     return longs == [longs[0]] * (shelf // longs[0]) + left and not (left and row[-1][2])
+
+
+def live_begins(pieces):
+    return [at for at, long, live in pieces if live]
+
+
+def free_cells(pieces):
+    return sum(long for at, long, live in pieces if not live)
+
+
+def plan_by_trying(pieces, need):
+    """The best plan over all starts and stops, with the cells between them counted one by one."""
+    count = sum(long for at, long, live in pieces)
+    live_cells = {cell for at, long, live in pieces if live for cell in range(at, at + long)}
+    best = None
+    for start in [0] + [at + long for at, long, live in pieces if live]:
+        for stop in live_begins(pieces) + [count]:
+            moved = len(live_cells & set(range(start, stop)))
+            fits = start <= stop and stop - start - moved >= need
+            if fits and (best is None or moved < best[0] or moved == best[0] and (start, stop) < best[1:]):
+                best = (moved, start, stop)
+    return best
+
+
+def pieces_by_plan(pieces, plan):
+    """The pieces behind a moving by this plan."""
+    start, stop = plan[1:]
+    told = [piece for piece in pieces if piece[0] < start]
+    for long in [long for at, long, live in pieces if live and start <= at < stop]:
+        told.append((start, long, True))
+        start += long
+    return told + [(start, stop - start, False)] + [piece for piece in pieces if piece[0] >= stop]
